@@ -1,0 +1,1 @@
+"""Bentthrough: curves of bent pieces through points."""

@@ -1,0 +1,32 @@
+"""What [3] says of integers, and how numbers are written in texts ([6])."""
+
+import unittest
+
+from anything import NO_INTEGERS
+from bentthrough.kinds import is_integer, is_integer_within, plain_number
+
+
+class KindsTest(unittest.TestCase):
+    def test_integers(self):
+        for value in (0, 1, -1, 7, 10 ** 59, -10 ** 59):
+            self.assertIs(is_integer(value), True)
+        for value in NO_INTEGERS:
+            with self.subTest(value=value):
+                self.assertIs(is_integer(value), False)
+                self.assertIs(is_integer_within(value, 0, 9), False)
+
+    def test_bounds(self):
+        for value, inside in ((-1, False), (0, True), (1, True), (8, True), (9, True), (10, False)):
+            self.assertIs(is_integer_within(value, 0, 9), inside)
+
+    def test_numbers_in_plain_digits(self):
+        for word, number in (("0", 0), ("1", 1), ("9", 9), ("10", 10), ("999", 999), ("1000", 1000)):
+            self.assertEqual(plain_number(word, 1000), number)
+        for word in ("", "00", "01", "0010", "1001", "9999", "10000", "9" * 8000, "0" * 8000, "-1", "-0", "+1", "1_0",
+                     " 1", "1 ", "1\n", "x", "0x1", "1.0", "1e2", "\u0663", "\u00b2"):
+            with self.subTest(word=word[:20]):
+                self.assertIsNone(plain_number(word, 1000))
+
+
+if __name__ == "__main__":
+    unittest.main()
