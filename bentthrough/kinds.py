@@ -1,4 +1,9 @@
-"""What kind of value something is, as the other modules ask it."""
+"""The kinds of numbers, integers and fractions: what is one, and how to reckon with fractions."""
+
+from math import gcd
+
+ZERO = (0, 1)
+ONE = (1, 1)
 
 
 def is_integer(value):
@@ -18,3 +23,35 @@ def plain_number(word, most):
         return None
     number = int(word)
     return number if number <= most and str(number) == word else None
+
+
+def is_fraction(value):
+    """Whether the value is a pair (top, bottom) without a common divisor above 1, the bottom from 1 on."""
+    if not isinstance(value, tuple) or len(value) != 2:
+        return False
+    top, bottom = value
+    return is_integer(top) and is_integer(bottom) and bottom >= 1 and gcd(top, bottom) == 1
+
+
+def reduced(top, bottom):
+    """The fraction that is top over bottom, which is not 0."""
+    common = gcd(top, bottom) if bottom > 0 else -gcd(top, bottom)
+    return top // common, bottom // common
+
+
+def plus(one, other):
+    """The sum of two fractions."""
+    return reduced(one[0] * other[1] + other[0] * one[1], one[1] * other[1])
+
+
+def times(one, other):
+    """The product of two fractions."""
+    return reduced(one[0] * other[0], one[1] * other[1])
+
+
+def sum_of_products(ones, others):
+    """The sum of the products of the fractions that stand side by side."""
+    total = ZERO
+    for one, other in zip(ones, others):
+        total = plus(total, times(one, other))
+    return total

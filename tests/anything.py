@@ -1,5 +1,7 @@
 """Things of every kind that may be passed where an error is told, and what tests ask of the errors."""
 
+from bentthrough.frames import Frame
+
 
 class Stranger:
     """An object that claims to equal everything."""
@@ -20,6 +22,8 @@ NO_TUPLES = (None, True, False, 0, 7, "", "0 2 4", b"02", [], [0, 2, 4], {}, {0:
              range(3), tuple, len, object(), Blank(), Stranger())
 NO_STRINGS = (None, True, False, 0, 7, b"", b"degree 1 knots 0 2 4 6", (), ("degree 1 knots 0 2 4 6",), [],
               ["degree 1 knots 0 2 4 6"], {}, {"degree 1 knots 0 2 4 6"}, str, len, object(), Blank(), Stranger())
+NO_FRAMES = (None, True, 0, 1, "", "degree 1 knots 0 2 4 6", b"", (), (1, (0, 2, 4, 6)), [], [1, (0, 2, 4, 6)], {},
+             set(), Frame, object(), Blank(), Stranger())
 
 
 def caught(case, error_class, action):

@@ -1,6 +1,7 @@
-"""The form of the package's files, as far as it is easily asked: sizes, signs, imports and names."""
+"""The form of the package's files, as far as it is easily asked: sizes, signs, imports, names and expressions."""
 
 import ast
+import builtins
 import os
 import unittest
 
@@ -12,6 +13,12 @@ BUILTINS = (
     "property", "classmethod", "staticmethod", "Exception", "ValueError", "TypeError", "KeyError", "IndexError",
     "LookupError", "ZeroDivisionError", "ArithmeticError", "NotImplemented",
 )
+NEVER = ("register", "mro", "elements", "open", "input", "law", "version_info", "format", "type", "id", "dir", "vars",
+         "compile", "exit", "help", "super", "os", "sys", "gc")
+METHODS = ("append", "clear", "copy", "count", "endswith", "extend", "find", "get", "index", "insert", "isalnum",
+           "isalpha", "isdigit", "isascii", "islower", "isspace", "isupper", "items", "join", "keys", "ljust", "lower",
+           "lstrip", "partition", "pop", "remove", "replace", "reverse", "rjust", "setdefault", "split", "startswith",
+           "strip", "update", "upper", "values", "zfill", "bit_length", "add", "discard")
 
 
 def files():
@@ -39,6 +46,26 @@ def bound_names(tree):
         elif isinstance(node, ast.ExceptHandler) and node.name:
             names.add(node.name)
     return names
+
+
+def outer_names(tree):
+    """The names of a file's imports and classes."""
+    names = [alias.name for node in tree.body if isinstance(node, ast.ImportFrom) for alias in node.names]
+    return names + [node.name for node in tree.body if isinstance(node, ast.ClassDef)]
+
+
+def inner_names(tree):
+    """The names of parameters and local variables of all functions."""
+    nodes = [node for outer in ast.walk(tree) if isinstance(outer, ast.FunctionDef) for node in ast.walk(outer)]
+    return [node.arg for node in nodes if isinstance(node, ast.arg)] + [
+        node.id for node in nodes if isinstance(node, ast.Name) and isinstance(node.ctx, ast.Store)]
+
+
+def own_names():
+    """The names of all functions, methods and attributes that the package defines."""
+    nodes = [node for _, text in files() for node in ast.walk(ast.parse(text))]
+    return {node.name for node in nodes if isinstance(node, ast.FunctionDef)} | {
+        node.attr for node in nodes if isinstance(node, ast.Attribute) and isinstance(node.ctx, ast.Store)}
 
 
 class FormTest(unittest.TestCase):
@@ -85,6 +112,43 @@ class FormTest(unittest.TestCase):
                 with self.subTest(name=name):
                     self.assertNotIsInstance(node, ast.Div)
                     self.assertNotIsInstance(getattr(node, "value", None), float)
+
+    def test_inner_names_are_not_those_of_imports_classes_or_builtins(self):
+        for name, text in files():
+            tree = ast.parse(text)
+            with self.subTest(name=name):
+                self.assertEqual(set(inner_names(tree)) & (set(outer_names(tree)) | set(dir(builtins))), set())
+                self.assertEqual(len(outer_names(tree)), len(set(outer_names(tree))))
+
+    def test_all_imports_are_used(self):
+        for name, text in files():
+            tree = ast.parse(text)
+            read = {node.id for node in ast.walk(tree) if isinstance(node, ast.Name)}
+            with self.subTest(name=name):
+                self.assertLessEqual(set(outer_names(tree)) - read, {node.name for node in tree.body
+                                                                     if isinstance(node, ast.ClassDef)})
+
+    def test_names_and_methods_that_are_used(self):
+        methods = own_names() | set(METHODS)
+        for name, text in files():
+            tree = ast.parse(text)
+            with self.subTest(name=name):
+                self.assertEqual(bound_names(tree) & set(NEVER), set())
+                for node in ast.walk(tree):
+                    if isinstance(node, ast.Attribute):
+                        self.assertIn(node.attr, methods)
+
+    def test_expressions_that_are_left_out(self):
+        kinds = (ast.GeneratorExp, ast.Lambda, ast.Yield, ast.YieldFrom, ast.Await, ast.Global, ast.Set, ast.Delete,
+                 ast.AnnAssign, ast.AsyncFunctionDef)
+        for name, text in files():
+            for node in ast.walk(ast.parse(text)):
+                with self.subTest(name=name):
+                    self.assertNotIsInstance(node, kinds)
+                    if isinstance(node, ast.BinOp) and isinstance(node.op, ast.Pow):
+                        self.assertIsInstance(node.right, ast.Constant)
+                    if isinstance(node, ast.Constant) and isinstance(node.value, str):
+                        self.assertNotIn("%", node.value)
 
 
 if __name__ == "__main__":

@@ -2,7 +2,7 @@
 
 import unittest
 
-from anything import NO_INTEGERS, NO_STRINGS, NO_TUPLES, Blank, Stranger, check_given, check_index
+from anything import NO_FRAMES, NO_INTEGERS, NO_STRINGS, NO_TUPLES, Stranger, check_given, check_index
 from bentthrough import frames
 from bentthrough.errors import InvalidDegree, InvalidKnots, InvalidText, NotAFrame
 from bentthrough.frames import Frame, stretches, within
@@ -56,7 +56,8 @@ WRONG_KNOTS = (
     (2, (0, 1, 2, 10 ** 59), 3), (2, (-10 ** 59, 1, 2, 3), 0), (1, (0, 1, True, 2), 2), (1, (False, 1, 2), 0),
     (1, (0, True, 2), 1), (0, (0, True), 1), (1, (0, "2", 4), 1), (1, (None, 2, 4), 0), (1, (0, 2, (4,)), 2),
     # less than the one before it
-    (0, (1, 0), 1), (1, (5, 4, 6), 1), (2, (1, 0, 2, 3), 1), (4, (9, 8, 9, 9, 9, 9), 1), (1, (0, 5, 4, 6), 2), (1, (0, 2, 4, 3), 3), (4, (0, 0, 0, 0, 0, 9, 9, 8), 7),
+    (0, (1, 0), 1), (1, (5, 4, 6), 1), (2, (1, 0, 2, 3), 1), (4, (9, 8, 9, 9, 9, 9), 1), (1, (0, 5, 4, 6), 2),
+    (1, (0, 2, 4, 3), 3), (4, (0, 0, 0, 0, 0, 9, 9, 8), 7),
     # more than degree + 1 alike
     (0, (0, 0), 1), (0, (0, 1, 1), 2), (1, (0, 0, 0), 2), (1, (0, 3, 3, 3), 3), (1, (0, 1, 1, 2, 2, 2), 5),
     (2, (1, 1, 1, 1), 3), (2, (0, 4, 4, 4, 4, 5), 4), (3, (9, 9, 9, 9, 9), 4), (4, (2, 2, 2, 2, 2, 2), 5),
@@ -107,8 +108,6 @@ WRONG_TEXTS = (
 
 RAMP = Frame(1, (0, 2, 4, 6))
 BOW = Frame(2, (0, 0, 0, 4, 4, 4))
-NO_FRAMES = (None, True, 0, 1, "", "degree 1 knots 0 2 4 6", b"", (), (1, (0, 2, 4, 6)), [], [1, (0, 2, 4, 6)], {},
-             set(), Frame, object(), Blank(), Stranger())
 
 
 class ExamplesTest(unittest.TestCase):

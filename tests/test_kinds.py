@@ -1,9 +1,13 @@
-"""What [3] says of integers, and how numbers are written in texts ([6])."""
+"""What [3] says of integers and fractions, how these are reckoned with, and how numbers are written in texts ([6])."""
 
 import unittest
+from fractions import Fraction
 
 from anything import NO_INTEGERS
-from bentthrough.kinds import is_integer, is_integer_within, plain_number
+from bentthrough.kinds import (is_fraction, is_integer, is_integer_within, plain_number, plus, reduced, sum_of_products,
+                               times)
+from reckoned import pair
+from wrongs import NO_FRACTIONS
 
 
 class KindsTest(unittest.TestCase):
@@ -26,6 +30,31 @@ class KindsTest(unittest.TestCase):
                      " 1", "1 ", "1\n", "x", "0x1", "1.0", "1e2", "\u0663", "\u00b2"):
             with self.subTest(word=word[:20]):
                 self.assertIsNone(plain_number(word, 1000))
+
+    def test_fractions(self):
+        for value in ((0, 1), (1, 1), (-1, 1), (1, 2), (-3, 7), (10 ** 59, 1), (1, 10 ** 59), (-10 ** 60, 10 ** 60 + 1),
+                      (-9, 4), (12, 1)):
+            with self.subTest(value=value):
+                self.assertIs(is_fraction(value), True)
+        for value in NO_FRACTIONS:
+            with self.subTest(value=value):
+                self.assertIs(is_fraction(value), False)
+
+    def test_reduced(self):
+        for top in range(-12, 13):
+            for bottom in (*range(-12, 0), *range(1, 13)):
+                self.assertEqual(reduced(top, bottom), pair(Fraction(top, bottom)))
+
+    def test_sums_and_products(self):
+        parts = [Fraction(top, bottom) for top in range(-4, 5) for bottom in (1, 2, 3, 6)]
+        for one in parts:
+            for other in parts:
+                self.assertEqual(plus(pair(one), pair(other)), pair(one + other))
+                self.assertEqual(times(pair(one), pair(other)), pair(one * other))
+        ones, others = parts[:9], parts[-9:]
+        self.assertEqual(sum_of_products([pair(one) for one in ones], [pair(other) for other in others]),
+                         pair(sum(one * other for one, other in zip(ones, others))))
+        self.assertEqual(sum_of_products([], []), (0, 1))
 
 
 if __name__ == "__main__":
