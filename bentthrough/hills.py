@@ -28,9 +28,20 @@ def value(frame, hill, place):
 
 def values_at(frame, place):
     """The list of the values of all hills at the place."""
-    knots = frame.knots
+    return _values_over(frame.degree, frame.knots, place)
+
+
+def values_at_fraction(frame, x):
+    """The list of the values of all hills at a fraction."""
+    top, bottom = x
+    # The values stay as they are if all knots and x are multiplied by one number, which here makes x an integer.
+    return _values_over(frame.degree, [knot * bottom for knot in frame.knots], top)
+
+
+def _values_over(degree, knots, place):
+    """The list of the values, at an integer, of all hills of this degree over these knots."""
     found = [_flat_value(knots, index, place) for index in range(len(knots) - 1)]
-    for width in range(2, frame.degree + 2):
+    for width in range(2, degree + 2):
         found = [_bent_value(knots[at:at + width + 1], found[at:at + 2], place) for at in range(len(found) - 1)]
     return found
 

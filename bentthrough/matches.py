@@ -39,7 +39,8 @@ def _longest(frame, places):
     """For each hill and each index, and behind the last ones, the length of the longest matchings from there on."""
     found = [[0] * (len(places) + 1)]
     for hill in reversed(range(frame.hills)):
-        above, row = found[-1], [0]
+        above = found[-1]
+        row = [0]
         for index in reversed(range(len(places))):
             if stands_there(frame, hill, places[index]):
                 row.append(above[index + 1] + 1)

@@ -106,7 +106,8 @@ def eliminated(rows, many):
     Among the first `many` items each of these columns has just one other than 0, in the row that it belongs to; the
     rows behind these have none at all there.
     """
-    found, columns = [whole_numbers(row) for row in rows], []
+    found = [whole_numbers(row) for row in rows]
+    columns = []
     for column in range(many):
         done = len(columns)
         heads = [at for at in range(done, len(found)) if found[at][column] != 0]

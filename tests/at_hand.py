@@ -1,7 +1,8 @@
-"""Frames for tests: of each degree, with knots apart and alike, and all small ones."""
+"""Frames and curves for tests: of each degree, with knots apart and alike, and all small ones."""
 
 from itertools import combinations_with_replacement
 
+from bentthrough.curves import Curve
 from bentthrough.errors import InvalidKnots
 from bentthrough.frames import Frame
 
@@ -30,6 +31,14 @@ WIDE = (
     Frame(3, (0, 1, 500000, 999990, 999999, 10 ** 6)), Frame(4, (0,) * 5 + (10 ** 6,) * 5),
     Frame(4, (7, 99, 1234, 56789, 400000, 400001, 999999, 10 ** 6)),
 )
+
+
+AMOUNTS = ((3, 1), (-1, 2), (0, 1), (5, 3), (-7, 1), (1, 10 ** 20), (10 ** 59, 7), (2, 5), (-1, 1), (4, 9))
+
+
+def curve_of(frame, start=0):
+    """A curve of the frame with amounts of many kinds."""
+    return Curve(frame, tuple(AMOUNTS[(start + hill) % len(AMOUNTS)] for hill in range(frame.hills)))
 
 
 def small_frames(degree, many, most):

@@ -5,7 +5,7 @@ from fractions import Fraction
 from itertools import pairwise
 
 from anything import NO_FRAMES, NO_TUPLES, Stranger
-from at_hand import BOW, FRAMES, RAMP, WIDE, places_near, small_frames
+from at_hand import BOW, FRAMES, RAMP, WIDE, curve_of, places_near, small_frames
 from bentthrough import curves
 from bentthrough.curves import Curve, area, piece, slope
 from bentthrough.errors import InvalidAmounts, InvalidNumber
@@ -23,14 +23,8 @@ EXAMPLES = """
 >>> [arch.value(2), piece(arch, 0), slope(arch, 1), area(arch, 0, 4), piece(arch, 4)]
 [(2, 1), ((0, 1), (2, 1), (-1, 2)), (1, 1), (16, 3), ((0, 1), (0, 1), (0, 1))]
 """
-AMOUNTS = ((3, 1), (-1, 2), (0, 1), (5, 3), (-7, 1), (1, 10 ** 20), (10 ** 59, 7), (2, 5), (-1, 1), (4, 9))
 ROOF = Curve(RAMP, ((3, 1), (1, 1)))
 ARCH = Curve(BOW, ((0, 1), (4, 1), (0, 1)))
-
-
-def curve_of(frame, start=0):
-    """A curve of the frame with amounts of many kinds."""
-    return Curve(frame, tuple(AMOUNTS[(start + hill) % len(AMOUNTS)] for hill in range(frame.hills)))
 
 
 def hill_alone(frame, hill):
