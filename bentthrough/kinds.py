@@ -1,9 +1,10 @@
-"""The kinds of numbers, integers and fractions: what is one, and how to reckon with fractions."""
+"""What an integer, a fraction and a name is, and how to reckon with fractions."""
 
 from math import gcd
 
 ZERO = (0, 1)
 ONE = (1, 1)
+MOST_LETTERS = 8
 
 
 def is_integer(value):
@@ -14,6 +15,13 @@ def is_integer(value):
 def is_integer_within(value, low, high):
     """Whether the value is an integer from low to high."""
     return is_integer(value) and low <= value <= high
+
+
+def is_name(value):
+    """Whether the value is a string of one to eight letters from `a` to `z`."""
+    if not isinstance(value, str) or len(value) > MOST_LETTERS:
+        return False
+    return value.isascii() and value.isalpha() and value.islower()
 
 
 def plain_number(word, most):

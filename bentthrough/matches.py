@@ -18,6 +18,15 @@ def check_places(places):
             raise InvalidPlaces(index)
 
 
+def are_places(things):
+    """Whether these are places."""
+    try:
+        check_places(things)
+    except InvalidPlaces:
+        return False
+    return True
+
+
 def _check_both(frame, places):
     """The checks of a frame and places."""
     check_frame(frame)

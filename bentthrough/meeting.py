@@ -57,18 +57,26 @@ def nothing_at(frame, places):
     """Curves that are 0 at all places, of which all such curves are sums of multiples in one way alone."""
     check_frame(frame)
     check_places(places)
-    rows, columns = eliminated([values_at(frame, place) for place in places], frame.hills)
-    free = [column for column in range(frame.hills) if column not in columns]
-    return tuple([Curve(frame, tuple(_vanishing(rows, columns, column, frame.hills))) for column in free])
+    found = vanishing_rows([values_at(frame, place) for place in places], frame.hills)
+    return tuple([Curve(frame, tuple(amounts)) for amounts in found])
 
 
-def _vanishing(rows, columns, free, many):
-    """The amounts with 1 for the hill that is free, 0 for the others that are, and the value 0 at all places."""
-    amounts = [ZERO] * many
-    amounts[free] = ONE
-    for row, column in zip(rows, columns):
-        amounts[column] = reduced(-row[free], row[column])
-    return amounts
+def vanishing_rows(rows, many):
+    """Lists of so many fractions whose products with those of each row have the sum 0.
+
+    All such lists are sums of multiples of these in one way alone: each of these has 1 where all others have 0.
+    """
+    cleared, columns = eliminated(rows, many)
+    return [_vanishing(cleared, columns, free, many) for free in range(many) if free not in columns]
+
+
+def _vanishing(cleared, columns, free, many):
+    """The list with 1 in the column that is free, 0 in the others that are, and the sum 0 with each cleared row."""
+    found = [ZERO] * many
+    found[free] = ONE
+    for row, column in zip(cleared, columns):
+        found[column] = reduced(-row[free], row[column])
+    return found
 
 
 def lifted(frame, places, index):

@@ -138,6 +138,29 @@ class FormTest(unittest.TestCase):
                     if isinstance(node, ast.Attribute):
                         self.assertIn(node.attr, methods)
 
+    def test_ends_of_with_statements_only_assign(self):
+        """Names get attributes of `self`, attributes get names or attributes of names, perhaps if `kind` is None."""
+        found = [node for _, text in files() for node in ast.walk(ast.parse(text))
+                 if isinstance(node, ast.FunctionDef) and node.name == "__exit__"]
+        self.assertTrue(found)
+        for function in found:
+            names, rows = set(), []
+            for node in function.body:
+                rows += node.body if isinstance(node, ast.If) else [node]
+                if isinstance(node, ast.If):
+                    self.assertIn(ast.unparse(node.test), ("kind is None", "kind is not None"))
+                    self.assertEqual(node.orelse, [])
+            for node in rows:
+                self.assertIsInstance(node, ast.Assign)
+                target, = node.targets
+                if isinstance(target, ast.Name):
+                    self.assertNotIn(target.id, names)
+                    self.assertEqual(node.value.value.id, "self")
+                    names.add(target.id)
+                else:
+                    self.assertIn(target.value.id, {"self", *names})
+                    self.assertIn((node.value if isinstance(node.value, ast.Name) else node.value.value).id, names)
+
     def test_expressions_that_are_left_out(self):
         kinds = (ast.GeneratorExp, ast.Lambda, ast.Yield, ast.YieldFrom, ast.Await, ast.Global, ast.Set, ast.Delete,
                  ast.AnnAssign, ast.AsyncFunctionDef)

@@ -6,7 +6,7 @@ from fractions import Fraction
 from at_hand import BOW, FRAMES, RAMP, WIDE, places_near, small_frames
 from bentthrough import hills
 from bentthrough.frames import Frame
-from bentthrough.hills import standing, stands, value
+from bentthrough.hills import standing, stands, value, values_at_fraction
 from examples import check_examples
 from reckoned import hill_value, pair
 from wrongs import FRAMES as NO_FRAME_ROWS
@@ -74,6 +74,15 @@ class ValueTest(unittest.TestCase):
                 with self.subTest(frame=frame.text):
                     for place in range(most + 2):
                         self.check_values(frame, place)
+
+    def test_values_at_fractions(self):
+        for frame in (*FRAMES, *WIDE):
+            for place in places_near(frame):
+                for more in (Fraction(0), Fraction(1, 3), Fraction(-2, 7), Fraction(1, 10 ** 30)):
+                    x = place + more
+                    with self.subTest(frame=frame.text, x=x):
+                        found = values_at_fraction(frame, pair(x))
+                        self.assertEqual(found, [pair(hill_value(frame, hill, x)) for hill in range(frame.hills)])
 
     def test_one_together_between_the_inner_end_knots(self):
         for frame in (*FRAMES, *WIDE):

@@ -1,11 +1,11 @@
-"""What [3] says of integers and fractions, how these are reckoned with, and how numbers are written in texts ([6])."""
+"""What [3] says of integers, fractions and names, how fractions are reckoned with, and numbers in texts ([6])."""
 
 import unittest
 from fractions import Fraction
 
-from anything import NO_INTEGERS
-from bentthrough.kinds import (is_fraction, is_integer, is_integer_within, plain_number, plus, reduced, sum_of_products,
-                               times)
+from anything import NO_INTEGERS, NO_STRINGS
+from bentthrough.kinds import (is_fraction, is_integer, is_integer_within, is_name, plain_number, plus, reduced,
+                               sum_of_products, times)
 from reckoned import pair
 from wrongs import NO_FRACTIONS
 
@@ -30,6 +30,14 @@ class KindsTest(unittest.TestCase):
                      " 1", "1 ", "1\n", "x", "0x1", "1.0", "1e2", "\u0663", "\u00b2"):
             with self.subTest(word=word[:20]):
                 self.assertIsNone(plain_number(word, 1000))
+
+    def test_names(self):
+        for value in ("a", "z", "az", "abcdefgh", "ijklmnop", "qrstuvwx", "yz", "zzzzzzzz"):
+            self.assertIs(is_name(value), True)
+        for value in (*NO_STRINGS, "", "abcdefghi", "a" * 8000, "A", "aB", "Ab", "a1", "1", " ", "a ", " a", "a b",
+                      "a\n", "\n", "a_", "-", "{", "`", "\u00e9", "\u0430", "a\u00df", "\u00aa"):
+            with self.subTest(value=value):
+                self.assertIs(is_name(value), False)
 
     def test_fractions(self):
         for value in ((0, 1), (1, 1), (-1, 1), (1, 2), (-3, 7), (10 ** 59, 1), (1, 10 ** 59), (-10 ** 60, 10 ** 60 + 1),
