@@ -31,7 +31,7 @@ def certify_below(frame, places, number):
     if free > number:
         return None
     rows = [values_at(frame, place) for place in places]
-    # There may be more weights than are asked for; any of them do, as each has an integer where all others have 0.
+    # There may be more weights than are asked for; any of them do, as each has a number where all others have 0.
     weights = vanishing_rows([list(column) for column in zip(*rows)], len(places))[:max(len(places) - number, 0)]
     return ("below", frame.text, places, number), tuple([tuple(whole_numbers(row)) for row in weights])
 
